@@ -15,11 +15,17 @@ def is_name(thing):
     return all([sign in LETTERS for sign in thing])
 
 
-def is_amount(thing):
+def is_whole(thing):
     # A truth is an int for Python, but it is no whole number here.
-    if not isinstance(thing, int) or isinstance(thing, bool):
-        return False
-    return 1 <= thing < 10 ** 60
+    return isinstance(thing, int) and not isinstance(thing, bool)
+
+
+def is_amount(thing):
+    return is_whole(thing) and 1 <= thing < 10 ** 60
+
+
+def is_line(thing):
+    return is_amount(thing) or (is_whole(thing) and thing == 0)
 
 
 def is_shelf(thing):

@@ -17,8 +17,15 @@ def at(one, key):
     return one.get(key, 0)
 
 
+def summed(sheets):
+    pairs = []
+    for one in sheets:
+        pairs.extend(list(one.items()))
+    return sheet_of(pairs)
+
+
 def plus(one, other):
-    return sheet_of(list(one.items()) + list(other.items()))
+    return summed([one, other])
 
 
 def minus(one, other):

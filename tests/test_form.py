@@ -1,7 +1,9 @@
 """The form of the package: a part of what LANGUAGE.md asks, the part that is easily seen line by line.
 
-Looked at are L1, L2, L4 to L8, L10, L12, L14, L17, L20, L21, L25 and L27, and of L15 that no name is called like one
-of Python's own, each as far as it goes without a reader. The other rules, and the rest of these, are not looked at here.
+Looked at are L1, L2, L4 to L8, L10, L12, L14, L17, L20, L21, L23 to L25 and L27; of L15 that names are bound once at a
+file's top, and no local is called like one of Python's own, an import or a class; of L16 where names are drawn from; of
+L18 and L26 the names of methods and values; of L19 what is never taken; of L22 keywords; of L28 `__init__`. Each of them
+is looked at as far as it goes without a reader. The other rules, and the rest of these, are not looked at here.
 """
 
 import ast
@@ -48,6 +50,19 @@ NOT_USED = """
     copyright credits delattr dir eval exec exit gc getattr globals hasattr help id importlib license locals
     methodcaller os quit setattr super vars sys
 """.split()
+
+# L23
+WALKED_NAMES = ["zip", "enumerate", "reversed", "range"]
+WALKED_METHODS = ["items", "keys", "values"]
+WALKERS = ["list", "tuple", "dict", "sorted", "sum", "any", "all", "enumerate", "zip"]
+
+# L22
+KEYWORDS = {"sorted": ["key", "reverse"], "min": ["key", "default"], "max": ["key", "default"], "sum": ["start"],
+            "enumerate": ["start"], "zip": ["strict"]}
+
+# L26
+VALUES = "count index title find get join lower upper split strip copy add".split()
+METHODS = OWN_METHODS + ["add", "discard"]
 
 
 def faults_of_lines(lines):
@@ -143,12 +158,134 @@ def faults_of_node(node):
             yield "L27: an exponent"
 
 
+def called_name(node):
+    """The name of what a call calls, where it is a plain name."""
+    return node.func.id if isinstance(node, ast.Call) and isinstance(node.func, ast.Name) else None
+
+
+def is_walked(node, above):
+    if isinstance(above, (ast.For, ast.comprehension)):
+        return above.iter is node
+    if not isinstance(above, ast.Call) or not above.args or above.args[0] is not node:
+        return False
+    if isinstance(above.func, ast.Attribute):
+        return above.func.attr == "join" and isinstance(above.func.value, ast.Constant)
+    return called_name(above) in WALKERS or (called_name(above) in ["min", "max"] and len(above.args) == 1)
+
+
+def is_set_in_its_place(node, parents):
+    above = parents[node]
+    if isinstance(above, ast.BinOp):
+        return is_set_in_its_place(above, parents)
+    if isinstance(above, ast.Compare):
+        return all(isinstance(sign, (ast.In, ast.NotIn, ast.Eq, ast.NotEq)) for sign in above.ops)
+    return called_name(above) in ["sorted", "len"] and len(above.args) == 1 and not above.keywords
+
+
+def faults_of_places(tree):
+    parents = {below: above for above in ast.walk(tree) for below in ast.iter_child_nodes(above)}
+    for node in ast.walk(tree):
+        if isinstance(node, ast.Call):
+            name = called_name(node)
+            method = node.func.attr if isinstance(node.func, ast.Attribute) else None
+            if (name in WALKED_NAMES or method in WALKED_METHODS) and not is_walked(node, parents[node]):
+                yield node.lineno, "L23: kept, not walked"
+            if name in ["set", "frozenset"] and not is_set_in_its_place(node, parents):
+                yield node.lineno, "L24: a set"
+            if name in OWN_NAMES and any(word.arg not in KEYWORDS.get(name, []) for word in node.keywords):
+                yield node.lineno, "L22: a keyword"
+        elif isinstance(node, ast.Set):
+            yield node.lineno, "L13, L24: a set"
+        elif isinstance(node, ast.FormattedValue):
+            if not isinstance(node.value, ast.Name) or node.conversion not in [-1, ord("r")] or node.format_spec:
+                yield node.lineno, "L7: an f-string"
+        elif isinstance(node, ast.ExceptHandler):
+            if node.type is None or any(getattr(one, "id", "") in ["Exception", "TypeError"]
+                                        for one in ast.walk(node.type)):
+                yield node.lineno, "L19: what is taken"
+
+
+def names_at_the_top(tree):
+    for node in tree.body:
+        if isinstance(node, (ast.FunctionDef, ast.ClassDef)):
+            yield node.name
+        elif isinstance(node, ast.ImportFrom):
+            yield from (alias.asname or alias.name for alias in node.names)
+        elif isinstance(node, ast.Assign):
+            yield from (target.id for target in node.targets if isinstance(target, ast.Name))
+
+
+def faults_of_binding(tree):
+    top = list(names_at_the_top(tree))
+    if len(top) != len(set(top)):
+        yield 0, "L15: a name bound twice"
+    taken = [alias.name for node in tree.body if isinstance(node, ast.ImportFrom) for alias in node.names]
+    taken.extend(node.name for node in ast.walk(tree) if isinstance(node, ast.ClassDef))
+    for node in ast.walk(tree):
+        if isinstance(node, (ast.FunctionDef, ast.Lambda)):
+            body = node.body if isinstance(node, ast.FunctionDef) else []
+            inside = list(bound_names(node.args)) + [pair for part in body for pair in bound_names(part)]
+            yield from ((node.lineno, "L15: the local " + name) for part, name in inside if name in taken)
+        elif isinstance(node, ast.ClassDef):
+            names = [part.name for part in node.body if isinstance(part, ast.FunctionDef)]
+            if len(names) != len(set(names)):
+                yield node.lineno, "L18: a method twice"
+
+
+def methods_and_values(tree):
+    methods, values = set(), set()
+    for node in ast.walk(tree):
+        if isinstance(node, ast.ClassDef):
+            methods |= {part.name for part in node.body if isinstance(part, ast.FunctionDef)} - set(SPECIAL)
+        elif isinstance(node, ast.Attribute) and isinstance(node.ctx, ast.Store):
+            values.add(node.attr)
+    return methods, values
+
+
+def faults_of_classes(tree):
+    methods, values = methods_and_values(tree)
+    theirs = {name for kind in [str, int, list, tuple, dict, set, bytes] for name in dir(kind)}
+    yield from ((0, "L26: the method " + name) for name in sorted(methods & theirs - set(METHODS)))
+    yield from ((0, "L26: the value " + name) for name in sorted(values & (theirs | {"args"}) - set(VALUES)))
+    for node in ast.walk(tree):
+        if isinstance(node, ast.FunctionDef) and node.name == "__init__":
+            if any(isinstance(part, ast.Return) and part.value is not None for part in ast.walk(node)):
+                yield node.lineno, "L28: what __init__ gives back"
+
+
+def drawn_from(tree):
+    drawn = {}
+    for node in tree.body:
+        if isinstance(node, ast.ImportFrom):
+            names = drawn.setdefault(node.module.removeprefix("dealknot."), [])
+            names.extend(alias.name for alias in node.names)
+    return drawn
+
+
+def faults_of_package(trees):
+    """L16 and L18, as far as they go beyond one file; of a dict from file names without their end to trees."""
+    for name, tree in trees.items():
+        for other, drawn in drawn_from(tree).items():
+            own = [node for node in trees[other].body if not isinstance(node, ast.ImportFrom)]
+            defined = list(names_at_the_top(ast.Module(own, [])))
+            yield from (name + ": L16: " + one + " of " + other for one in drawn if one not in defined)
+    # What draws from nothing that is left is taken away until nothing can be: files that are left draw from one another.
+    left = {name: set(drawn_from(tree)) for name, tree in trees.items()}
+    while any(not drawn & set(left) for drawn in left.values()):
+        left = {name: drawn for name, drawn in left.items() if drawn & set(left)}
+    yield from (name + ": L16: a ring of files" for name in left)
+    pairs = [methods_and_values(tree) for tree in trees.values()]
+    both = set().union(*[pair[0] for pair in pairs]) & set().union(*[pair[1] for pair in pairs])
+    yield from ("L18: a method and a value " + name for name in sorted(both))
+
+
 def faults_of(text):
     faults = list(faults_of_lines(text.removesuffix("\n").split("\n")))
     tree = ast.parse(text)
     if ast.get_docstring(tree) is not None:
         tree.body = tree.body[1:]
-    faults.extend(faults_of_names(tree))
+    for look in [faults_of_names, faults_of_places, faults_of_binding, faults_of_classes]:
+        faults.extend(look(tree))
     for node in ast.walk(tree):
         faults.extend((getattr(node, "lineno", 0), fault) for fault in faults_of_node(node))
     return faults
@@ -161,18 +298,42 @@ class Form(unittest.TestCase):
         for name in names:
             self.assertTrue(name == "__init__.py" or re.fullmatch(r"[a-z][a-z0-9_]*\.py", name), name)
 
-    def test_each_file_keeps_to_the_language(self):
+    def texts(self):
+        told = {}
         for name in sorted(os.listdir(FOLDER)):
             if name.endswith(".py"):
                 with open(os.path.join(FOLDER, name), newline="", encoding="utf-8") as file:
-                    text = file.read()
-                with self.subTest(name):
-                    self.assertEqual(faults_of(text), [])
+                    told[name.removesuffix(".py")] = file.read()
+        return told
+
+    def test_each_file_keeps_to_the_language(self):
+        for name, text in self.texts().items():
+            with self.subTest(name):
+                self.assertEqual(faults_of(text), [])
+
+    def test_the_files_keep_to_it_together(self):
+        self.assertEqual(list(faults_of_package({name: ast.parse(text) for name, text in self.texts().items()})), [])
+
+    def test_wrong_packages_have_a_fault(self):
+        value = "class A:\n    def __init__(self):\n        self.one = 1\n"
+        wrong = [
+            {"a": "from dealknot.b import one", "b": "two = 1"},
+            {"a": "from dealknot.b import one", "b": "from dealknot.c import one", "c": "one = 1"},
+            {"a": "from dealknot.b import one\ntwo = 1", "b": "from dealknot.a import two\none = 1"},
+            {"a": value, "b": "class B:\n    def one(self):\n        pass\n"}]
+        for texts in wrong:
+            with self.subTest(texts):
+                trees = {name: ast.parse(text) for name, text in texts.items()}
+                self.assertNotEqual(list(faults_of_package(trees)), [])
+                self.assertEqual([faults_of(text) for text in texts.values()], [[] for text in texts])
 
     def test_right_code_has_no_fault(self):
         right = '"""Words."""\n\nfrom dealknot.errors import NoName\n\nLETTERS = "ab"\n\n\n' \
                 "def told(one, key=None):\n    if key is None:\n        raise NoName(\"words\")\n" \
-                "    return sorted([10 ** 60 for a, b in one.items() if a in LETTERS])\n"
+                "    return sorted([10 ** 60 for a, b in one.items() if a in LETTERS])\n\n\n" \
+                "class Kept:\n    def __init__(self, one):\n        self.one = dict(list(one.items()))\n\n" \
+                "    def others(self, many):\n        told = sorted(set(self.one) - set(many))\n" \
+                "        return [f\"{name} {name!r}\" for name in told if name not in set(many)]\n"
         self.assertEqual(faults_of(right), [])
 
     def test_wrong_code_has_one(self):
@@ -186,7 +347,18 @@ class Form(unittest.TestCase):
             "def f():\n    yield 1", "def f():\n    global a", "def f(a: int):\n    pass", "def f(id):\n    pass",
             "def f():\n" + "    pass\n" * 40, "class A:\n    a = 1", "class A(ValueError, KeyError):\n    pass",
             "for a in [1]:\n    pass\nelse:\n    pass", "try:\n    pass\nfinally:\n    pass", "a = 1\n" * 401,
-            "a = 1  # " + "x" * 120, "with a:\n    pass", "del a", "print(1)"]
+            "a = 1  # " + "x" * 120, "with a:\n    pass", "del a", "print(1)",
+            "a = {}.items()", "a = [].extend({}.values())", "a = zip([], [])", "a = len(range(3))", "a = set()",
+            "a = [x for x in set([1])]", "a = set([1]) | set([2])", "a = sorted(set([1]), reverse=True)", "a = {1, 2}",
+            "a = int('1', base=3)", "a = 1\na = 2", "a = 1\nb = f'{a + 1}'", "a = 1\nb = f'{a!s}'",
+            "a = 1\nb = f'{a:3}'", "try:\n    pass\nexcept:\n    pass", "try:\n    pass\nexcept Exception:\n    pass",
+            "try:\n    pass\nexcept (KeyError, TypeError):\n    pass", "class A:\n    def sort(self):\n        pass",
+            "class A:\n    def __init__(self):\n        self.items = 1",
+            "class A:\n    def __init__(self):\n        return None",
+            "class A:\n    def b(self):\n        pass\n\n    def b(self):\n        pass",
+            "from dealknot.a import b\n\n\ndef c():\n    b = 1\n    return b",
+            "from dealknot.a import b\n\n\ndef c(b):\n    return b", "from dealknot.a import b\nc = lambda b: b",
+            "class A:\n    pass\n\n\ndef c():\n    return [A for A in [1]]"]
         for text in wrong:
             with self.subTest(text[:60]):
                 self.assertNotEqual(faults_of(text), [])
