@@ -2,8 +2,8 @@
 
 Looked at are L1, L2, L4 to L8, L10, L12, L14, L17, L20, L21, L23 to L25 and L27; of L15 that names are bound once at a
 file's top, and no local is called like one of Python's own, an import or a class; of L16 where names are drawn from; of
-L18 and L26 the names of methods and values; of L19 what is never taken; of L22 keywords; of L28 `__init__`. Each of them
-is looked at as far as it goes without a reader. The other rules, and the rest of these, are not looked at here.
+L18 and L26 the names of methods and values; of L19 what is never taken; of L22 keywords; of L28 `__init__`. Each is
+looked at as far as it goes without a reader. The other rules, and the rest of these, are not looked at here.
 """
 
 import ast
@@ -269,7 +269,7 @@ def faults_of_package(trees):
             own = [node for node in trees[other].body if not isinstance(node, ast.ImportFrom)]
             defined = list(names_at_the_top(ast.Module(own, [])))
             yield from (name + ": L16: " + one + " of " + other for one in drawn if one not in defined)
-    # What draws from nothing that is left is taken away until nothing can be: files that are left draw from one another.
+    # What draws from nothing that is left is taken away until nothing can be: those that stay draw from one another.
     left = {name: set(drawn_from(tree)) for name, tree in trees.items()}
     while any(not drawn & set(left) for drawn in left.values()):
         left = {name: drawn for name, drawn in left.items() if drawn & set(left)}

@@ -9,7 +9,7 @@ from small_books import (
     GREAT, assert_refused, book_of, faults, keeps_rows, one_deal, plainly_goes, queue, rests_of, ring, sets_of,
     small_book, values)
 
-AW, BW, CW, AV, BV = ("a", "w"), ("b", "w"), ("c", "w"), ("a", "v"), ("b", "v")
+AW, BW, CW, BV = ("a", "w"), ("b", "w"), ("c", "w"), ("b", "v")
 
 
 class Lacks(unittest.TestCase):

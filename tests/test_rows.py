@@ -197,8 +197,8 @@ class Broken(unittest.TestCase):
 class WhoseItIs(unittest.TestCase):
     DEAL = one_deal("x", "a b w 3", "c b w 3")
     CALLS = [lambda rows: entered(rows, WhoseItIs.DEAL), lambda rows: left(rows, []), lambda rows: left(rows, ["p"]),
-             lambda rows: left(rows, ["zz"]), lambda rows: put_to(rows, AW, "p", 1), lambda rows: put_to(rows, AW, "p", 0),
-             lambda rows: put_to(rows, BW, "r", GREAT)]
+             lambda rows: left(rows, ["zz"]), lambda rows: put_to(rows, AW, "p", 1),
+             lambda rows: put_to(rows, AW, "p", 0), lambda rows: put_to(rows, BW, "r", GREAT)]
 
     def rows(self):
         return {AW: ["p", "q"], BW: ["r", "p"], AV: ["s"]}

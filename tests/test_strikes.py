@@ -9,7 +9,7 @@ from small_books import (
     GREAT, all_strikes, book_of, one_deal, plainly_goes, plainly_holds, queue, ring, sets_of, small_book, turned,
     values)
 
-AW, BW, CW, AV, BV = ("a", "w"), ("b", "w"), ("c", "w"), ("a", "v"), ("b", "v")
+AW, BW, CW, AV = ("a", "w"), ("b", "w"), ("c", "w"), ("a", "v")
 
 
 def chain():
