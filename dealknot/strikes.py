@@ -13,45 +13,58 @@ def needs_of_row(shelf, row, given):
     return needs
 
 
-def needs_of(book):
-    given = dict([(name, gives(deal)) for name, deal in book.deals.items()])
-    return dict([(shelf, needs_of_row(shelf, row, given)) for shelf, row in book.rows.items()])
+class Ground:
+    # What of a book does not hang on what is struck: reckoned once, however many slates are made of it.
+    def __init__(self, book):
+        given = dict([(name, gives(deal)) for name, deal in book.deals.items()])
+        self.rows = book.rows
+        self.shelves = sorted(book.rows)
+        self.needs = dict([(shelf, needs_of_row(shelf, row, given)) for shelf, row in book.rows.items()])
+        self.brought = dict([(name, brings(deal)) for name, deal in book.deals.items()])
+        self.supply = summed([book.stock, book.lines] + list(self.brought.values()))
+        self.touched = dict([(name, sorted(set(given[name]) | set(self.brought[name]))) for name in book.deals])
+
+    def touched_by(self, names):
+        # In the rows of these shelves alone strikes may hold that did not hold ahead of the striking of the names.
+        shelves = []
+        for name in names:
+            shelves.extend(self.touched[name])
+        return sorted(set(shelves) & set(self.rows))
 
 
 class Slate:
-    # The needs don't hang on what is struck, and of the supply a strike takes only what its deal brings:
-    # so all is reckoned once, and a strike costs little.
-    def __init__(self, book, struck):
-        self.rows = book.rows
-        self.shelves = sorted(book.rows)
-        self.needs = needs_of(book)
-        self.brought = dict([(name, brings(deal)) for name, deal in book.deals.items()])
-        self.supply = summed([book.stock, book.lines] + list(self.brought.values()))
+    # Of the supply a strike takes only what its deal brings, so a strike costs little.
+    def __init__(self, ground, struck):
+        self.ground = ground
+        self.supply = dict(ground.supply)
         self.struck = {}
         for name in sorted(set(struck)):
             self.strike(name)
 
     def strike(self, name):
         self.struck[name] = True
-        for shelf, amount in self.brought[name].items():
-            self.supply[shelf] = at(self.supply, shelf) - amount
+        for shelf, amount in self.ground.brought[name].items():
+            self.shift_supply(shelf, -amount)
+
+    def shift_supply(self, shelf, amount):
+        self.supply[shelf] = at(self.supply, shelf) + amount
 
     def falls_short(self, name, shelf):
-        return self.needs[shelf][name] > at(self.supply, shelf)
+        return self.ground.needs[shelf][name] > at(self.supply, shelf)
 
     def unstruck(self):
-        return [name for name in sorted(self.brought) if name not in self.struck]
+        return [name for name in sorted(self.ground.brought) if name not in self.struck]
 
 
-def slate_among(book, among):
+def slate_among(ground, among):
     if among is None:
-        return Slate(book, [])
-    return Slate(book, sorted(set(book.deals) - set(among)))
+        return Slate(ground, [])
+    return Slate(ground, sorted(set(ground.brought) - set(among)))
 
 
 def holds(slate, strike):
     name, shelf, other = strike
-    row = slate.rows.get(shelf, [])
+    row = slate.ground.rows.get(shelf, [])
     if name not in row or name in slate.struck:
         return False
     if other is None:
@@ -62,7 +75,7 @@ def holds(slate, strike):
 def strikes_in_row(slate, shelf):
     found = []
     ahead = None
-    for name in slate.rows[shelf]:
+    for name in slate.ground.rows[shelf]:
         if name in slate.struck:
             ahead = name
         elif ahead is not None:
@@ -73,16 +86,16 @@ def strikes_in_row(slate, shelf):
 
 
 def can_strike(book, struck):
-    slate = Slate(book, struck)
+    slate = Slate(Ground(book), struck)
     names = []
-    for shelf in slate.shelves:
+    for shelf in slate.ground.shelves:
         names.extend([strike[0] for strike in strikes_in_row(slate, shelf)])
     return sorted(set(names))
 
 
-def strike_each_row(slate):
+def strike_rows(slate, shelves):
     made = []
-    for shelf in slate.shelves:
+    for shelf in shelves:
         # What holds in a row holds on when others are struck, so all of it can be struck one by one.
         for strike in strikes_in_row(slate, shelf):
             slate.strike(strike[0])
@@ -90,21 +103,36 @@ def strike_each_row(slate):
     return made
 
 
-def most(book, among=None):
-    slate = slate_among(book, among)
+def strike_out(slate, shelves):
     paper = []
-    made = strike_each_row(slate)
+    made = strike_rows(slate, shelves)
     # A strike may let others hold in rows that were walked already.
     while made:
         paper.extend(made)
-        made = strike_each_row(slate)
+        made = strike_rows(slate, slate.ground.touched_by([strike[0] for strike in made]))
+    return paper
+
+
+def most_of(ground, among):
+    slate = slate_among(ground, among)
+    paper = strike_out(slate, ground.shelves)
     return (slate.unstruck(), paper)
 
 
-def walked(book, paper, among=None):
-    slate = slate_among(book, among)
+def most(book, among=None):
+    return most_of(Ground(book), among)
+
+
+def strike_along(slate, paper):
     for strike in paper:
         if not holds(slate, strike):
-            return None
+            return False
         slate.strike(strike[0])
+    return True
+
+
+def walked(book, paper, among=None):
+    slate = slate_among(Ground(book), among)
+    if not strike_along(slate, paper):
+        return None
     return slate.unstruck()

@@ -42,6 +42,12 @@ def queue():
     return book_of({("a", "w"): 5}, one_deal("z", "a b w 2"), one_deal("m", "a c w 3"), one_deal("k", "a b w 1"))
 
 
+def chain():
+    """No deal goes: s lacks, and the others hang on what it brings, one on the other, or stand behind."""
+    return book_of({}, one_deal("p", "a x w 1"), one_deal("q", "b a w 1"), one_deal("r", "c b w 1"),
+                   one_deal("s", "d c w 1"), one_deal("t", "a x w 1"))
+
+
 def values(book):
     """A copy of a book's four values, to be compared with other ones."""
     return copy.deepcopy((book.stock, book.lines, book.deals, book.rows))
@@ -111,6 +117,26 @@ def small_book(seed):
     return book
 
 
+def ring_book(seed):
+    """A book of some rings, in which the amounts mostly fit, with little on the shelves and rows in any order."""
+    chance = random.Random(seed)
+    book, names = empty(), chance.sample("pqrstuv", 7)
+    while len(names) > 1:
+        size = chance.randint(2, min(4, len(names)))
+        houses, ware, amount = chance.sample("abcde", size), chance.choice("vw"), chance.randint(1, 3)
+        for place, house in enumerate(houses):
+            legs = [(house, houses[place - 1], ware, amount + chance.choice([0] * 14 + [1, -1 if amount > 1 else 0]))]
+            if chance.randint(0, 3) == 0:
+                legs.extend(some_legs(chance, "abcde", "vw")[:1])
+            book = offered(book, deal_of(names.pop(), legs))
+        if chance.randint(0, 1) == 0:
+            book = laid(book, (chance.choice("abcde"), chance.choice("vw")), chance.randint(1, 5))
+    for shelf in sorted(book.rows):
+        if chance.randint(0, 2) == 0:
+            book = moved(book, shelf, chance.choice(book.rows[shelf]), chance.randint(0, 2))
+    return book
+
+
 def turned(book):
     """The four values of a book, each dict walked the other way round."""
     return [dict(reversed(list(value.items()))) for value in (book.stock, book.lines, book.deals, book.rows)]
@@ -152,6 +178,14 @@ def plainly_goes(book, names):
     return keeps_rows(book.rows, names) and all(rest >= 0 for rest in rests_of(book, names).values())
 
 
+def greatest(book, among):
+    """The set of these names that goes and holds all others, found by trying every set."""
+    going = [names for names in sets_of(among) if plainly_goes(book, names)]
+    last = going[-1]
+    assert all(set(names) <= set(last) for names in going)
+    return last
+
+
 def plainly_holds(book, struck, strike):
     name, shelf, other = strike
     row = book.rows.get(shelf, [])
@@ -162,6 +196,16 @@ def plainly_holds(book, struck, strike):
         return other in struck and other in row[:place]
     bringers = [one for one in book.deals if one not in struck]
     return legs_sum(book, row[:place + 1], shelf, 0) > room_of(book, shelf) + legs_sum(book, bringers, shelf, 1)
+
+
+def plainly_left(book, paper, among=None):
+    """What a paper leaves, or None where it is none."""
+    struck = [name for name in book.deals if among is not None and name not in among]
+    for strike in paper:
+        if not plainly_holds(book, struck, strike):
+            return None
+        struck.append(strike[0])
+    return [name for name in sorted(book.deals) if name not in struck]
 
 
 def all_strikes(book):

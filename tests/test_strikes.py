@@ -6,24 +6,10 @@ from dealknot.books import Book, called_off, empty, laid, lined, moved, offered,
 from dealknot.going import done, goes
 from dealknot.strikes import can_strike, most, walked
 from small_books import (
-    GREAT, all_strikes, book_of, one_deal, plainly_goes, plainly_holds, queue, ring, sets_of, small_book, turned,
-    values)
+    GREAT, all_strikes, book_of, chain, greatest, one_deal, plainly_goes, plainly_holds, queue, ring, sets_of,
+    small_book, turned, values)
 
 AW, BW, CW, AV = ("a", "w"), ("b", "w"), ("c", "w"), ("a", "v")
-
-
-def chain():
-    """No deal goes: s lacks, and the others hang on what it brings, one on the other, or stand behind."""
-    return book_of({}, one_deal("p", "a x w 1"), one_deal("q", "b a w 1"), one_deal("r", "c b w 1"),
-                   one_deal("s", "d c w 1"), one_deal("t", "a x w 1"))
-
-
-def greatest(book, among):
-    """The set of these names that goes and holds all others, found by trying every set."""
-    going = [names for names in sets_of(among) if plainly_goes(book, names)]
-    last = going[-1]
-    assert all(set(names) <= set(last) for names in going)
-    return last
 
 
 class CanStrike(unittest.TestCase):
