@@ -1,9 +1,10 @@
 """The form of the package: a part of what LANGUAGE.md asks, the part that is easily seen line by line.
 
-Looked at are L1, L2, L4 to L8, L10, L12, L14, L17, L20, L21, L23 to L25 and L27; of L15 that names are bound once at a
-file's top, and no local is called like one of Python's own, an import or a class; of L16 where names are drawn from; of
-L18 and L26 the names of methods and values; of L19 what is never taken; of L22 keywords; of L28 `__init__`. Each is
-looked at as far as it goes without a reader. The other rules, and the rest of these, are not looked at here.
+Looked at are L1 to L8, L10, L12, L14, L17, L20, L21, L23 to L25 and L27; of L15 that names are bound once at a file's
+top, that lists and dicts there are only read, and no local is called like one of Python's own, an import or a class; of
+L16 where names are drawn from; of L18 where classes stand; of L18 and L26 the names of methods and values; of L19 what
+is never taken; of L22 keywords; of L28 `__init__`. Each is looked at as far as it goes without a reader. The other
+rules, and the rest of these, are not looked at here.
 """
 
 import ast
@@ -55,6 +56,9 @@ NOT_USED = """
 WALKED_NAMES = ["zip", "enumerate", "reversed", "range"]
 WALKED_METHODS = ["items", "keys", "values"]
 WALKERS = ["list", "tuple", "dict", "sorted", "sum", "any", "all", "enumerate", "zip"]
+
+# L15
+READS = ["get", "items", "keys", "values", "index", "count"]
 
 # L22
 KEYWORDS = {"sorted": ["key", "reverse"], "min": ["key", "default"], "max": ["key", "default"], "sum": ["start"],
@@ -182,8 +186,12 @@ def is_set_in_its_place(node, parents):
     return called_name(above) in ["sorted", "len"] and len(above.args) == 1 and not above.keywords
 
 
+def parents_in(tree):
+    return {below: above for above in ast.walk(tree) for below in ast.iter_child_nodes(above)}
+
+
 def faults_of_places(tree):
-    parents = {below: above for above in ast.walk(tree) for below in ast.iter_child_nodes(above)}
+    parents = parents_in(tree)
     for node in ast.walk(tree):
         if isinstance(node, ast.Call):
             name = called_name(node)
@@ -230,6 +238,66 @@ def faults_of_binding(tree):
             names = [part.name for part in node.body if isinstance(part, ast.FunctionDef)]
             if len(names) != len(set(names)):
                 yield node.lineno, "L18: a method twice"
+
+
+def is_plain_value(node, functions):
+    if isinstance(node, (ast.List, ast.Tuple)):
+        return all(is_plain_value(part, functions) for part in node.elts)
+    if isinstance(node, ast.Dict):
+        return all(is_plain_value(part, functions) for part in node.keys + node.values)
+    if isinstance(node, ast.UnaryOp):
+        return isinstance(node.op, ast.USub) and isinstance(node.operand, ast.Constant)
+    return isinstance(node, ast.Constant) or (isinstance(node, ast.Name) and node.id in functions)
+
+
+def faults_of_top(tree):
+    functions, kept, parents = [], [], parents_in(tree)
+    for node in tree.body:
+        if isinstance(node, ast.FunctionDef):
+            functions.append(node.name)
+        elif isinstance(node, ast.Assign):
+            if not is_plain_value(node.value, functions):
+                yield node.lineno, "L3: a value of the file's top"
+            if isinstance(node.value, (ast.List, ast.Dict)):
+                kept.extend(target.id for target in node.targets)
+                if any(isinstance(part, (ast.List, ast.Dict)) for part in list(ast.walk(node.value))[1:]):
+                    yield node.lineno, "L15: a list or dict within one"
+        elif not isinstance(node, (ast.ImportFrom, ast.ClassDef)):
+            yield node.lineno, "L3: what stands at the file's top"
+    for node in ast.walk(tree):
+        if isinstance(node, ast.Name) and node.id in kept and isinstance(node.ctx, ast.Load):
+            if not is_read_alone(node, parents[node], parents):
+                yield node.lineno, "L15: not read alone: " + node.id
+
+
+def is_read_alone(node, above, parents):
+    if isinstance(above, ast.Subscript):
+        return above.value is node and isinstance(above.ctx, ast.Load)
+    if isinstance(above, ast.Attribute):
+        return isinstance(parents[above], ast.Call) and above.attr in READS
+    if isinstance(above, ast.Call):
+        return called_name(above) in ["len", "sorted", "list", "dict", "tuple", "sum", "min", "max", "enumerate"]
+    return isinstance(above, (ast.Compare, ast.For, ast.comprehension))
+
+
+def is_class_in_its_place(node, parents):
+    above = parents[node]
+    if isinstance(above, ast.Tuple):
+        node, above = above, parents[above]
+        return isinstance(above, ast.ExceptHandler) or (called_name(above) == "isinstance" and above.args[1] is node)
+    if isinstance(above, ast.Call):
+        return above.func is node or (called_name(above) == "isinstance" and above.args[1] is node)
+    if isinstance(above, ast.Attribute):
+        return above.attr == "__init__"
+    return isinstance(above, (ast.ClassDef, ast.ExceptHandler))
+
+
+def faults_of_class_places(tree):
+    parents = parents_in(tree)
+    for node in ast.walk(tree):
+        # In this package the names of classes alone begin with a great letter and go on with a small one.
+        if isinstance(node, ast.Name) and re.match("[A-Z][a-z]", node.id) and not is_class_in_its_place(node, parents):
+            yield node.lineno, "L18: where the class stands: " + node.id
 
 
 def methods_and_values(tree):
@@ -284,7 +352,8 @@ def faults_of(text):
     tree = ast.parse(text)
     if ast.get_docstring(tree) is not None:
         tree.body = tree.body[1:]
-    for look in [faults_of_names, faults_of_places, faults_of_binding, faults_of_classes]:
+    for look in [faults_of_names, faults_of_places, faults_of_binding, faults_of_top, faults_of_class_places,
+                 faults_of_classes]:
         faults.extend(look(tree))
     for node in ast.walk(tree):
         faults.extend((getattr(node, "lineno", 0), fault) for fault in faults_of_node(node))
@@ -333,7 +402,10 @@ class Form(unittest.TestCase):
                 "    return sorted([10 ** 60 for a, b in one.items() if a in LETTERS])\n\n\n" \
                 "class Kept:\n    def __init__(self, one):\n        self.one = dict(list(one.items()))\n\n" \
                 "    def others(self, many):\n        told = sorted(set(self.one) - set(many))\n" \
-                "        return [f\"{name} {name!r}\" for name in told if name not in set(many)]\n"
+                "        return [f\"{name} {name!r}\" for name in told if name not in set(many)]\n\n\n" \
+                "CALLS = {\"told\": told, \"again\": told}\n\n\n" \
+                "def called(word, one):\n    if word in CALLS and not isinstance(one, (Kept, NoName)):\n" \
+                "        return CALLS[word](Kept(one).one)\n    return sorted(CALLS) + [CALLS.get(word)]\n"
         self.assertEqual(faults_of(right), [])
 
     def test_wrong_code_has_one(self):
@@ -358,7 +430,14 @@ class Form(unittest.TestCase):
             "class A:\n    def b(self):\n        pass\n\n    def b(self):\n        pass",
             "from dealknot.a import b\n\n\ndef c():\n    b = 1\n    return b",
             "from dealknot.a import b\n\n\ndef c(b):\n    return b", "from dealknot.a import b\nc = lambda b: b",
-            "class A:\n    pass\n\n\ndef c():\n    return [A for A in [1]]"]
+            "class A:\n    pass\n\n\ndef c():\n    return [A for A in [1]]",
+            "a = b\n\n\ndef b():\n    pass", "a = [1 + 2]", "a = {'b': [1]}", "a = [{}]", "a = len('b')",
+            "if True:\n    pass", "a = [1]\n\n\ndef b():\n    a.append(2)", "a = {}\n\n\ndef b():\n    a[1] = 2",
+            "a = {}\n\n\ndef b():\n    return a", "a = [1]\n\n\ndef b(c):\n    return c(a)",
+            "a = {}\n\n\ndef b():\n    a.update({})", "from dealknot.a import Bc\n\n\ndef d():\n    return [Bc]",
+            "from dealknot.a import Bc\n\n\ndef d(e):\n    return e(Bc)",
+            "from dealknot.a import Bc\n\n\ndef d(e):\n    return isinstance(Bc, e)",
+            "from dealknot.a import Bc\n\n\ndef d():\n    Bc.e = 1", "from dealknot.a import Bc\n\nE = {'b': Bc}"]
         for text in wrong:
             with self.subTest(text[:60]):
                 self.assertNotEqual(faults_of(text), [])

@@ -257,7 +257,8 @@ class Plan(Looked):
     def test_papers_are_of_the_book_behind_those_ahead(self):
         book = book_of({AW: 1}, one_deal("z", "a x w 1"), *ring_deals("pq", "ab"))
         told = plan(book)
-        self.assertEqual(told, [(["z"], [("z", [])]), (["p", "q"], [("p", [("q", BW, None)]), ("q", [("p", AW, None)])])])
+        self.assertEqual(told, [
+            (["z"], [("z", [])]), (["p", "q"], [("p", [("q", BW, None)]), ("q", [("p", AW, None)])])])
         self.look_at_plan(book, told)
 
     def test_what_waits_on_stays(self):

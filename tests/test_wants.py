@@ -192,7 +192,7 @@ class Want(Looked):
 
     def test_a_hundred_in_one_row(self):
         names = ["".join(two) for two in itertools.product("abcdefghij", repeat=2)]
-        deals = [one_deal(name, f"y z w {place + 1}", f"z y w {place}") for place, name in enumerate(names[1:], start=1)]
+        deals = [one_deal(name, f"y z w {place + 2}", f"z y w {place + 1}") for place, name in enumerate(names[1:])]
         book = book_of({}, *deals)
         told = want(book, names[-1], ("y", "w"))
         self.assertEqual(told[:2], (99, names[1:]))
